@@ -1,0 +1,1 @@
+"""Darkthread: watched rounds in a house, and whoever keeps to the dark."""

@@ -1,0 +1,80 @@
+"""The interface: names, arguments, defaults, and the file and class in which each thing is defined."""
+
+import ast
+import importlib
+import inspect
+import os
+import unittest
+
+PACKAGE = os.path.join(os.path.dirname(os.path.dirname(os.path.abspath(__file__))), "darkthread")
+
+VALUES = {"house": {"MOST_ROOMS": 8}, "rounds": {"MOST_ROUND": 6}}
+
+FUNCTIONS = {
+    "house": {"is_name": "(text)"},
+    "rounds": {"need_round": "(house, rooms)", "place": "(rooms, beat, *, delay=0)", "turned": "(rooms)",
+               "wheel_of": "(sizes)", "met": "(one, other)"},
+}
+
+CLASSES = {
+    "errors": {
+        "DarkError": {}, "Missing": {}, "Nothing": {"__init__": "(self)"},
+        **{name: {"__init__": "(self, name)"} for name in
+           ("BadName", "Taken", "Leans", "NoRoom", "NoPost", "NoWatcher", "NoWatch")},
+        "BadNumber": {"__init__": "(self, asked)"}, "NotAWalk": {"__init__": "(self, at)"},
+        "Broken": {"__init__": "(self, at)"}, "TooGreat": {"__init__": "(self, many)"},
+        "BadText": {"__init__": "(self, row)"},
+        **{name: {"__init__": "(self)"} for name in
+           ("Full", "Loop", "NoDoor", "NoSight", "BadRound", "Bare", "BadDeed", "BadAsking")},
+    },
+    "house": {
+        "House": {"__init__": "(self, rooms=(), doors=(), sights=())", "rooms": "(self)", "doors": "(self)",
+                  "sights": "(self)", "has_room": "(self, name)", "near": "(self, room)", "sees": "(self, room)",
+                  "has_door": "(self, a, b)", "has_sight": "(self, a, b)", "at_hand": "(self, a, b)",
+                  "__len__": "(self)", "__eq__": "(self, other)", "__str__": "(self)", "__repr__": "(self)"},
+    },
+}
+
+
+def module(name):
+    return importlib.import_module(f"darkthread.{name}")
+
+
+def tree(name):
+    with open(os.path.join(PACKAGE, f"{name}.py"), encoding="utf-8") as source:
+        return ast.parse(source.read())
+
+
+def defined(body, kind):
+    return {node.name: node for node in body if isinstance(node, kind)}
+
+
+class Interface(unittest.TestCase):
+    def test_values(self):
+        for name, values in VALUES.items():
+            for value, expected in values.items():
+                self.assertEqual(getattr(module(name), value), expected)
+
+    def test_functions_and_their_arguments(self):
+        for name, functions in FUNCTIONS.items():
+            here = defined(tree(name).body, ast.FunctionDef)
+            for function, arguments in functions.items():
+                with self.subTest(function=function):
+                    self.assertIn(function, here)
+                    self.assertEqual(str(inspect.signature(getattr(module(name), function))), arguments)
+
+    def test_classes_and_their_methods(self):
+        for name, classes in CLASSES.items():
+            here = defined(tree(name).body, ast.ClassDef)
+            for owner, methods in classes.items():
+                self.assertIn(owner, here)
+                own = defined(here[owner].body, ast.FunctionDef)
+                for method, arguments in methods.items():
+                    with self.subTest(owner=owner, method=method):
+                        self.assertIn(method, own)
+                        found = inspect.signature(getattr(getattr(module(name), owner), method))
+                        self.assertEqual(str(found), arguments)
+
+
+if __name__ == "__main__":
+    unittest.main()

@@ -1,0 +1,114 @@
+"""Those rules of the language for the package that can be read off its files."""
+
+import ast
+import os
+import re
+import unittest
+
+PACKAGE = os.path.join(os.path.dirname(os.path.dirname(os.path.abspath(__file__))), "darkthread")
+
+BUILTINS = set("""len range enumerate zip min max sum abs sorted reversed int str bool bytes list tuple dict set
+    frozenset isinstance ord repr any all divmod iter next Exception ValueError TypeError KeyError IndexError
+    LookupError ZeroDivisionError ArithmeticError OverflowError RuntimeError NotImplementedError AttributeError
+    StopIteration NotImplemented""".split())
+ALL_BUILTINS = set(dir(__builtins__) if not isinstance(__builtins__, dict) else __builtins__)
+METHODS = set("""__init__ __eq__ __repr__ __str__ __len__ __enter__ __exit__ __call__ __iter__""".split())
+BARRED_WORDS = re.compile(r"\b(type|typing|typing_extensions|enum|Enum|IntEnum|StrEnum|Flag|IntFlag|Generic|Protocol"
+                          r"|ABC|ABCMeta|namedtuple|NamedTuple|TypedDict|TYPE_CHECKING|abstractmethod)\b"
+                          r"|dataclass|overload|contextmanager")
+BARRED_NODES = (ast.Global, ast.AsyncFunctionDef, ast.AsyncFor, ast.AsyncWith, ast.Await, ast.Div, ast.Import)
+
+
+def sources():
+    for name in sorted(os.listdir(PACKAGE)):
+        if name.endswith(".py"):
+            with open(os.path.join(PACKAGE, name), encoding="utf-8") as source:
+                yield name, source.read()
+
+
+def bound_names(tree):
+    """Every name that a file gives to something, and the line."""
+    for node in ast.walk(tree):
+        if isinstance(node, (ast.FunctionDef, ast.ClassDef)):
+            yield node.name, node.lineno
+        elif isinstance(node, ast.arg):
+            yield node.arg, node.lineno
+        elif isinstance(node, ast.Name) and isinstance(node.ctx, ast.Store):
+            yield node.id, node.lineno
+        elif isinstance(node, ast.Attribute):
+            yield node.attr, node.lineno
+        elif isinstance(node, ast.alias):
+            yield node.asname or node.name, node.lineno
+
+
+class Language(unittest.TestCase):
+    def test_files(self):
+        for name in os.listdir(PACKAGE):
+            if name != "__pycache__":
+                self.assertRegex(name, r"^(__init__|[a-z][a-z0-9_]*)\.py$")
+
+    def test_signs_and_sizes(self):
+        for name, text in sources():
+            self.assertTrue(all(sign == "\n" or " " <= sign <= "~" for sign in text), name)
+            lines = text.split("\n")
+            self.assertLessEqual(len(lines) - 1, 399, name)
+            for at, line in enumerate(lines):
+                self.assertLessEqual(len(line), 120, (name, at + 1))
+
+    def test_barred_words(self):
+        for name, text in sources():
+            self.assertIsNone(BARRED_WORDS.search(text), name)
+
+    def test_barred_statements(self):
+        for name, text in sources():
+            for node in ast.walk(ast.parse(text)):
+                self.assertNotIsInstance(node, BARRED_NODES, (name, getattr(node, "lineno", 0)))
+                if isinstance(node, ast.Constant):
+                    self.assertNotIsInstance(node.value, (float, complex), name)
+                    self.assertNotIn("%", str(node.value), (name, node.lineno))
+
+    def test_imports(self):
+        for name, text in sources():
+            for node in ast.walk(ast.parse(text)):
+                if isinstance(node, ast.ImportFrom):
+                    self.assertEqual(node.level, 0, name)
+                    self.assertRegex(node.module, r"^darkthread\.[a-z_]+$", name)
+
+    def test_functions_of_at_most_forty_lines(self):
+        for name, text in sources():
+            for node in ast.walk(ast.parse(text)):
+                if isinstance(node, ast.FunctionDef):
+                    self.assertLessEqual(node.end_lineno - node.lineno + 1, 40, (name, node.name))
+
+    def test_builtins(self):
+        for name, text in sources():
+            for node in ast.walk(ast.parse(text)):
+                if isinstance(node, ast.Name) and isinstance(node.ctx, ast.Load) and node.id in ALL_BUILTINS:
+                    self.assertIn(node.id, BUILTINS, (name, node.lineno))
+
+    def test_plain_names(self):
+        for name, text in sources():
+            for bound, line in bound_names(ast.parse(text)):
+                if bound not in METHODS:
+                    self.assertRegex(bound, r"^[A-Za-z][A-Za-z0-9_]*$", (name, line))
+
+    def test_no_name_of_a_builtin(self):
+        for name, text in sources():
+            attributes = {node.attr for node in ast.walk(ast.parse(text)) if isinstance(node, ast.Attribute)}
+            for bound, line in bound_names(ast.parse(text)):
+                if bound not in attributes:
+                    self.assertNotIn(bound, ALL_BUILTINS, (name, line))
+
+    def test_no_name_is_a_method_and_an_attribute(self):
+        methods, attributes = set(), set()
+        for name, text in sources():
+            for node in ast.walk(ast.parse(text)):
+                if isinstance(node, ast.ClassDef):
+                    methods |= {part.name for part in node.body if isinstance(part, ast.FunctionDef)}
+                if isinstance(node, ast.Attribute) and isinstance(node.ctx, ast.Store):
+                    attributes.add(node.attr)
+        self.assertEqual(methods & attributes, set())
+
+
+if __name__ == "__main__":
+    unittest.main()
