@@ -5,6 +5,7 @@ import unittest
 
 from darkthread.errors import NoRoom
 from darkthread.house import MOST_ROOMS, House
+from tests.comparing import Comparing
 
 EIGHT = ("hall", "stair", "attic", "cellar", "yard", "a", "zz", "kitchen")
 STRANGERS = ("shed", "", "Hall", "hal", "halls", "hall ")
@@ -247,12 +248,7 @@ class Asked(unittest.TestCase):
         self.assertEqual(house.rooms(), villa().rooms())
 
 
-class Equal(unittest.TestCase):
-    def check(self, first, second, equal):
-        for one, other in ((first, second), (second, first)):
-            self.assertIs(one == other, equal)
-            self.assertIs(one != other, not equal)
-
+class Equal(Comparing):
     def test_same(self):
         self.check(villa(), villa(), True)
         self.check(House(), House(), True)

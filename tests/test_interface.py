@@ -8,12 +8,19 @@ import unittest
 
 PACKAGE = os.path.join(os.path.dirname(os.path.dirname(os.path.abspath(__file__))), "darkthread")
 
-VALUES = {"house": {"MOST_ROOMS": 8}, "rounds": {"MOST_ROUND": 6}}
+VALUES = {"house": {"MOST_ROOMS": 8}, "rounds": {"MOST_ROUND": 6},
+          "scene": {"MOST_POSTS": 5, "MOST_WATCHERS": 6, "MOST_RELIEF": 4, "NEVER": 0}}
 
 FUNCTIONS = {
     "house": {"is_name": "(text)"},
     "rounds": {"need_round": "(house, rooms)", "place": "(rooms, beat, *, delay=0)", "turned": "(rooms)",
                "wheel_of": "(sizes)", "met": "(one, other)"},
+    "meets": {"posts_meet": "(scene, post, other)", "watchers_meet": "(scene, watcher, other)"},
+    "ways": {"way": "(scene, starts, goals, *, begin=None)", "is_walk": "(scene, beat, rooms)",
+             "is_way": "(scene, starts, goals, beat, rooms)",
+             "is_closed": "(scene, starts, goals, cells, *, begin=None)"},
+    "linger": {"linger": "(scene, room, beat)", "is_ever": "(scene, room, beat, lead, ring)",
+               "is_most": "(scene, room, beat, rooms, ranks)"},
 }
 
 CLASSES = {
@@ -32,6 +39,14 @@ CLASSES = {
                   "sights": "(self)", "has_room": "(self, name)", "near": "(self, room)", "sees": "(self, room)",
                   "has_door": "(self, a, b)", "has_sight": "(self, a, b)", "at_hand": "(self, a, b)",
                   "__len__": "(self)", "__eq__": "(self, other)", "__str__": "(self)", "__repr__": "(self)"},
+    },
+    "scene": {
+        "Scene": {"__init__": "(self, house, posts=(), watchers=(), *, meet=False, relief=0)", "house": "(self)",
+                  "posts": "(self)", "watchers": "(self)", "rooms_of": "(self, post)", "delay_of": "(self, post)",
+                  "where": "(self, post, beat)", "who": "(self, post, beat)", "post_of": "(self, watcher, beat)",
+                  "reach_of": "(self, watcher)", "lit": "(self, beat)", "is_dark": "(self, room, beat)",
+                  "barred": "(self, a, b, beat)", "steps": "(self, room, beat)", "span": "(self)", "wheel": "(self)",
+                  "turning": "(self)", "__len__": "(self)", "__eq__": "(self, other)", "__repr__": "(self)"},
     },
 }
 

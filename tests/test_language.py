@@ -16,6 +16,11 @@ METHODS = set("""__init__ __eq__ __repr__ __str__ __len__ __enter__ __exit__ __c
 BARRED_WORDS = re.compile(r"\b(type|typing|typing_extensions|enum|Enum|IntEnum|StrEnum|Flag|IntFlag|Generic|Protocol"
                           r"|ABC|ABCMeta|namedtuple|NamedTuple|TypedDict|TYPE_CHECKING|abstractmethod)\b"
                           r"|dataclass|overload|contextmanager")
+VALUE_METHODS = set("""append clear copy count endswith extend find get index insert isalnum isalpha isdigit islower
+    isspace isupper items join keys ljust lower lstrip partition pop remove replace reverse rfind rjust rpartition
+    rsplit rstrip setdefault split splitlines startswith strip update upper values zfill bit_length""".split())
+TAKE_A_LIST = ("any", "all", "min", "max", "sum", "sorted")
+ITERATED_AT_ONCE = ("zip", "enumerate", "reversed", "range")
 BARRED_NODES = (ast.Global, ast.AsyncFunctionDef, ast.AsyncFor, ast.AsyncWith, ast.Await, ast.Div, ast.Import)
 
 
@@ -39,6 +44,29 @@ def bound_names(tree):
             yield node.attr, node.lineno
         elif isinstance(node, ast.alias):
             yield node.asname or node.name, node.lineno
+
+
+def called(node):
+    """The plain name that a node calls, None where it calls none."""
+    return node.func.id if isinstance(node, ast.Call) and isinstance(node.func, ast.Name) else None
+
+
+def imported(tree):
+    """The names that a file imports, with the files that they are from."""
+    return {alias.name: node.module for node in ast.walk(tree) if isinstance(node, ast.ImportFrom)
+            for alias in node.names}
+
+
+def methods_and_attributes():
+    """The names of all methods that classes define, and of all attributes that are assigned."""
+    methods, attributes = set(), set()
+    for name, text in sources():
+        for node in ast.walk(ast.parse(text)):
+            if isinstance(node, ast.ClassDef):
+                methods |= {part.name for part in node.body if isinstance(part, ast.FunctionDef)}
+            if isinstance(node, ast.Attribute) and isinstance(node.ctx, ast.Store):
+                attributes.add(node.attr)
+    return methods, attributes
 
 
 class Language(unittest.TestCase):
@@ -100,14 +128,68 @@ class Language(unittest.TestCase):
                     self.assertNotIn(bound, ALL_BUILTINS, (name, line))
 
     def test_no_name_is_a_method_and_an_attribute(self):
-        methods, attributes = set(), set()
+        methods, attributes = methods_and_attributes()
+        self.assertEqual(methods & attributes, set())
+
+    def test_methods_and_attributes_are_known(self):
+        methods, attributes = methods_and_attributes()
         for name, text in sources():
             for node in ast.walk(ast.parse(text)):
-                if isinstance(node, ast.ClassDef):
-                    methods |= {part.name for part in node.body if isinstance(part, ast.FunctionDef)}
-                if isinstance(node, ast.Attribute) and isinstance(node.ctx, ast.Store):
-                    attributes.add(node.attr)
-        self.assertEqual(methods & attributes, set())
+                if isinstance(node, ast.Attribute):
+                    self.assertIn(node.attr, methods | attributes | VALUE_METHODS, (name, node.lineno))
+
+    def test_no_local_name_of_an_import(self):
+        for name, text in sources():
+            tree = ast.parse(text)
+            names = set(imported(tree))
+            for node in ast.walk(tree):
+                if isinstance(node, ast.arg):
+                    self.assertNotIn(node.arg, names, (name, node.lineno))
+                elif isinstance(node, ast.Name) and isinstance(node.ctx, ast.Store):
+                    self.assertNotIn(node.id, names, (name, node.lineno))
+
+    def test_imports_name_the_file_that_defines(self):
+        here = {f"darkthread.{name[:-3]}": ast.parse(text) for name, text in sources()}
+        defined = {module: {node.name for node in tree.body if isinstance(node, (ast.FunctionDef, ast.ClassDef))}
+                   | {target.id for node in tree.body if isinstance(node, ast.Assign) for target in node.targets}
+                   for module, tree in here.items()}
+        for module, tree in here.items():
+            for name, source in imported(tree).items():
+                self.assertIn(name, defined[source], module)
+
+    def test_no_files_import_each_other(self):
+        links = {f"darkthread.{name[:-3]}": set(imported(ast.parse(text)).values()) for name, text in sources()}
+        while links:
+            free = [module for module in links if not links[module] & set(links)]
+            self.assertTrue(free, links)
+            for module in free:
+                del links[module]
+
+    def test_no_generators(self):
+        for name, text in sources():
+            for node in ast.walk(ast.parse(text)):
+                self.assertNotIsInstance(node, (ast.Yield, ast.YieldFrom), name)
+                if called(node) in TAKE_A_LIST:
+                    for handed in node.args:
+                        self.assertNotIsInstance(handed, ast.GeneratorExp, (name, node.lineno))
+
+    def test_iterated_at_once(self):
+        for name, text in sources():
+            tree = ast.parse(text)
+            at_once = [node.iter for node in ast.walk(tree) if isinstance(node, (ast.For, ast.comprehension))]
+            at_once += [node.args[0] for node in ast.walk(tree)
+                        if called(node) in ("list", "tuple", "dict", "sum", "enumerate", "zip") and node.args]
+            for node in ast.walk(tree):
+                if called(node) in ITERATED_AT_ONCE:
+                    self.assertIn(node, at_once, (name, node.lineno))
+
+    def test_is_with_none_true_and_false_alone(self):
+        for name, text in sources():
+            for node in ast.walk(ast.parse(text)):
+                if isinstance(node, ast.Compare):
+                    for sign, right in zip(node.ops, node.comparators):
+                        if isinstance(sign, (ast.Is, ast.IsNot)):
+                            self.assertIsInstance(right, ast.Constant, (name, node.lineno))
 
 
 if __name__ == "__main__":
