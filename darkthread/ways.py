@@ -3,6 +3,7 @@
 from darkthread.beats import need_beat
 from darkthread.cells import is_cell, next_cells
 from darkthread.house import need_room
+from darkthread.search import searched
 
 
 def need_asked(scene, starts, goals, begin):
@@ -22,16 +23,6 @@ def beginnings(scene, starts, begin):
             if room in starts and scene.is_dark(room, rest)]
 
 
-def traced(ahead, goal):
-    """The cells from a beginning to a goal, by the cell from which each one was reached."""
-    row = []
-    cell = goal
-    while cell is not None:
-        row.append(cell)
-        cell = ahead[cell]
-    return row[::-1]
-
-
 def told_way(row, begin):
     """A way along a row of cells, as it is told."""
     beat = row[0][1] if begin is None else begin
@@ -41,20 +32,12 @@ def told_way(row, begin):
 def way(scene, starts, goals, *, begin=None):
     """A walk unseen of least beats from one of starts to one of goals, or a closed lot where there is none."""
     need_asked(scene, starts, goals, begin)
-    cells = beginnings(scene, starts, begin)
-    ahead = {cell: None for cell in cells}
-    looked = 0
-    # Cells come in the order of their beats from a beginning, so the first one at a goal is at the least.
-    while looked < len(cells):
-        cell = cells[looked]
-        looked += 1
-        if cell[0] in goals:
-            return told_way(traced(ahead, cell), begin)
-        for other in next_cells(scene, cell):
-            if other not in ahead:
-                ahead[other] = cell
-                cells.append(other)
-    return "closed", cells
+    row, cells = searched(beginnings(scene, starts, begin),
+                          lambda cell: next_cells(scene, cell),
+                          lambda cell: cell[0] in goals)
+    if row is None:
+        return "closed", cells
+    return told_way(row, begin)
 
 
 def is_walk(scene, beat, rooms):

@@ -6,8 +6,9 @@ FAR = 10 ** 9
 BEYOND = (FAR + 1, -FAR - 1, FAR + 7, -(10 ** 12), 10 ** 30)
 STRANGERS = ("shed", "", "Hall", "hal", "halls", "hall ")
 
-FIELDS = {"BadName": "name", "Taken": "name", "NoRoom": "name", "NoPost": "name", "NoWatcher": "name",
-          "BadNumber": "asked", "NotAWalk": "at"}
+FIELDS = {"BadName": "name", "Taken": "name", "Leans": "name", "NoRoom": "name", "NoPost": "name",
+          "NoWatcher": "name", "NoWatch": "name", "BadNumber": "asked", "NotAWalk": "at", "Broken": "at",
+          "TooGreat": "many", "BadText": "row"}
 
 
 class Refusing(unittest.TestCase):

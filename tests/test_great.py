@@ -7,6 +7,7 @@ from darkthread.house import House
 from darkthread.linger import is_ever, is_most, linger
 from darkthread.meets import posts_meet, watchers_meet
 from darkthread.scene import Scene
+from darkthread.several import is_together, together
 from darkthread.ways import is_closed, is_walk, is_way, way
 from tests.plain import Plain, some_plain
 
@@ -65,6 +66,20 @@ class Great(unittest.TestCase):
                 else:
                     self.assertTrue(is_closed(scene, EIGHT[:3], goals, told[1], begin=begin))
 
+    def check_together(self, plain):
+        """One alone, which is never beyond the bound; two, if they are not."""
+        scene = plain.scene
+        for begin in (0, 10 ** 9, -(10 ** 9)):
+            for wishes in ([("hall", "yard")], [("stair", "pantry")], [("attic", "loft"), ("hall", "den")]):
+                if len(EIGHT) ** len(wishes) * scene.wheel() > 20000:
+                    continue
+                told = together(scene, wishes, begin)
+                if told[0] == "way":
+                    self.assertTrue(is_together(scene, wishes, begin, told[1]))
+                if len(wishes) == 1:
+                    alone = way(scene, [wishes[0][0]], [wishes[0][1]], begin=begin)
+                    self.assertEqual((told[0], len(told[1])), (alone[0], len(alone[-1])))
+
     def check_linger(self, plain):
         scene = plain.scene
         for room in EIGHT:
@@ -82,6 +97,7 @@ class Great(unittest.TestCase):
         self.check_meets(plain)
         self.check_ways(plain)
         self.check_linger(plain)
+        self.check_together(plain)
 
     def test_five_posts(self):
         plain = greatest_wheel(5)

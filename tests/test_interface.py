@@ -21,6 +21,14 @@ FUNCTIONS = {
              "is_closed": "(scene, starts, goals, cells, *, begin=None)"},
     "linger": {"linger": "(scene, room, beat)", "is_ever": "(scene, room, beat, lead, ring)",
                "is_most": "(scene, room, beat, rooms, ranks)"},
+    "bars": {"fewest": "(house, posts, reaches, starts, goals)",
+             "is_bar": "(house, posts, reaches, starts, goals, names, ways)",
+             "least_delays": "(house, posts, reaches, starts, goals)"},
+    "several": {"together": "(scene, wishes, begin)", "is_together": "(scene, wishes, begin, rows)"},
+    "seen": {"fits": "(house, size, sightings)", "can_be": "(house, size, sightings, beat)",
+             "read_round": "(house, size, sightings)", "is_misfit": "(house, size, sightings, table)"},
+    "askings": {"need_asking": "(asking)", "answer": "(scene, asking)", "asking_text": "(asking)",
+                "read_asking": "(text)", "shown": "(told)"},
 }
 
 CLASSES = {
