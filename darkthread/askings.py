@@ -4,7 +4,7 @@ from darkthread.errors import BadAsking, BadText
 from darkthread.linger import linger
 from darkthread.meets import posts_meet
 from darkthread.ways import way
-from darkthread.words import read_things
+from darkthread.words import read_word
 
 # For each word the kinds of things that can stand behind it.
 ASKING_FORMS = {
@@ -103,7 +103,7 @@ def read_asking(text):
     kinds = asking_kinds(word, len(words))
     if kinds is None:
         raise BadText(0)
-    things = read_things(words, kinds)
+    things = [read_word(thing, kind) for thing, kind in zip(words, kinds)]
     return (word, *things)
 
 

@@ -34,6 +34,13 @@ def need_rooms(house, a, b):
     need_room(house, b)
 
 
+def need_unlike(house, a, b):
+    """Refuse two rooms unless the house has both and they are unlike."""
+    need_rooms(house, a, b)
+    if a == b:
+        raise Loop()
+
+
 def new_names(names):
     """A copy of a row of names, none of them twice."""
     copied = []
@@ -47,9 +54,7 @@ def unlike_pairs(house, pairs):
     """A copy of a row of pairs, each of two unlike rooms of the house."""
     copied = []
     for a, b in pairs:
-        need_rooms(house, a, b)
-        if a == b:
-            raise Loop()
+        need_unlike(house, a, b)
         copied.append((a, b))
     return copied
 

@@ -33,9 +33,9 @@ def can_begin(scene, rooms, beat):
     return len(set(rooms)) == len(rooms) and all([scene.is_dark(room, beat) for room in rooms])
 
 
-def is_against(ahead, now, room, other):
-    """Whether one of those who went from the rooms ahead to those now meets a step to the other room."""
-    return any([(a, b) == (other, room) for a, b in zip(ahead, now)])
+def shut_rooms(ahead, now, room):
+    """The rooms shut to one in a room by those who go from rooms ahead to others now: theirs, and whence one comes."""
+    return [*now, *[a for a, b in zip(ahead, now) if b == room]]
 
 
 def joint_steps(scene, rooms, rest):
@@ -43,8 +43,11 @@ def joint_steps(scene, rooms, rest):
     rows = [()]
     for room in rooms:
         steps = scene.steps(room, rest)
-        rows = [(*row, other) for row in rows for other in steps
-                if other not in row and not is_against(rooms, row, room, other)]
+        longer = []
+        for row in rows:
+            shut = shut_rooms(rooms, row, room)
+            longer += [(*row, other) for other in steps if other not in shut]
+        rows = longer
     return rows
 
 

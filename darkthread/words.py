@@ -34,10 +34,7 @@ def read_number(word):
 READERS = {"name": read_name, "number": read_number}
 
 
-def read_things(words, kinds):
-    """The things that words are, each of its kind; there are as many words as kinds."""
-    things = []
-    for word, kind in zip(words, kinds):
-        reader = READERS[kind]
-        things.append(reader(word))
-    return things
+def read_word(word, kind):
+    """The name or the number that a word is."""
+    reader = READERS[kind]
+    return reader(word)

@@ -4,22 +4,8 @@ import unittest
 
 from darkthread.askings import asking_text, read_asking, shown
 from darkthread.errors import BadText
-from tests.plain import Chance
 from tests.refusing import Refusing
-
-NAMES = ("a", "hall", "zz", "upstairs", "abcdefgh", "way", "wheel", "no", "z")
-NUMBERS = (0, 1, -1, 9, 10, -10, 99, 100, 10 ** 9, -(10 ** 9), 10 ** 9 + 1, 9999999999, -9999999999, 1234567890)
-FORMS = (("where", "name", "number"), ("who", "name", "number"), ("lit", "number"), ("wheel",),
-         ("meets", "name", "name"), ("way", "name", "name"), ("way", "name", "name", "number"),
-         ("linger", "name", "number"))
-
-
-def askings():
-    """Askings of each form with names and numbers of all sizes."""
-    chance = Chance(5)
-    for word, *kinds in FORMS:
-        for turn in range(30):
-            yield word, *[chance.one_of(NAMES if kind == "name" else NUMBERS) for kind in kinds]
+from tests.texts import NUMBERS, askings, bent_signs, is_written
 
 
 class ThereAndBack(unittest.TestCase):
@@ -40,35 +26,6 @@ class ThereAndBack(unittest.TestCase):
         self.assertEqual(read_asking("lit -9999999999"), ("lit", -9999999999))
         self.assertEqual(read_asking("lit 0"), ("lit", 0))
         self.assertEqual(read_asking("meets way way"), ("meets", "way", "way"))
-
-
-def is_written(text):
-    """Whether a text is an asking's, word by word."""
-    words = text.split(" ")
-    for word, *kinds in FORMS:
-        if words[0] == word and len(words) == len(kinds) + 1:
-            return all(is_named(thing) if kind == "name" else is_counted(thing)
-                       for thing, kind in zip(words[1:], kinds))
-    return False
-
-
-def is_named(word):
-    return 1 <= len(word) <= 8 and set(word) <= set("abcdefghijklmnopqrstuvwxyz")
-
-
-def is_counted(word):
-    figures = word[1:] if word[:1] == "-" else word
-    return 1 <= len(figures) <= 10 and set(figures) <= set("0123456789") and str(int(word)) == word
-
-
-def bent(text):
-    """Texts with a sign out, put in, exchanged or doubled."""
-    for at in range(len(text) + 1):
-        yield text[:at] + text[at + 1:]
-        yield text[:at] + text[at:at + 1] + text[at:]
-        for sign in " a0-9,Z+\n_.\t":
-            yield text[:at] + sign + text[at:]
-            yield text[:at] + sign + text[at + 1:]
 
 
 class BadTexts(Refusing):
@@ -103,7 +60,7 @@ class BadTexts(Refusing):
         read = 0
         for text in ("way hall attic -4", "wheel", "lit 30", "meets p q", "where upstairs 1234567890", "linger a 0",
                      "who p -1", "way a b"):
-            for other in bent(text):
+            for other in bent_signs(text, " a0-9,Z+\n_.\t"):
                 if is_written(other):
                     self.assertEqual(asking_text(read_asking(other)), other)
                     read += 1

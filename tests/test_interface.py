@@ -9,7 +9,8 @@ import unittest
 PACKAGE = os.path.join(os.path.dirname(os.path.dirname(os.path.abspath(__file__))), "darkthread")
 
 VALUES = {"house": {"MOST_ROOMS": 8}, "rounds": {"MOST_ROUND": 6},
-          "scene": {"MOST_POSTS": 5, "MOST_WATCHERS": 6, "MOST_RELIEF": 4, "NEVER": 0}}
+          "scene": {"MOST_POSTS": 5, "MOST_WATCHERS": 6, "MOST_RELIEF": 4, "NEVER": 0},
+          "book": {"MOST_WATCHES": 4}}
 
 FUNCTIONS = {
     "house": {"is_name": "(text)"},
@@ -29,6 +30,8 @@ FUNCTIONS = {
              "read_round": "(house, size, sightings)", "is_misfit": "(house, size, sightings, table)"},
     "askings": {"need_asking": "(asking)", "answer": "(scene, asking)", "asking_text": "(asking)",
                 "read_asking": "(text)", "shown": "(told)"},
+    "lines": {"deed_text": "(deed)", "deed_of": "(text)"},
+    "pages": {"page": "(book)", "read_page": "(text)"},
 }
 
 CLASSES = {
@@ -56,6 +59,16 @@ CLASSES = {
                   "barred": "(self, a, b, beat)", "steps": "(self, room, beat)", "span": "(self)", "wheel": "(self)",
                   "turning": "(self)", "__len__": "(self)", "__eq__": "(self, other)", "__repr__": "(self)"},
     },
+    "book": {
+        "Book": {"__init__": "(self)", "do": "(self, deed)", "all_of": "(self, deeds)", "busy": "(self)",
+                 "post": "(self, name, rooms, *, delay=0)", "watcher": "(self, name, *, reach=0)",
+                 "rule": "(self, *, meet=False, relief=0)", "undo": "(self)", "redo": "(self)", "deeds": "(self)",
+                 "notes": "(self)", "watches": "(self)", "house": "(self)", "posts": "(self)", "watchers": "(self)",
+                 "rules": "(self)", "scene": "(self)", "ask": "(self, asking)", "seen_by": "(self, name)",
+                 "twin": "(self)", "__len__": "(self)", "__eq__": "(self, other)", "__repr__": "(self)",
+                 "__str__": "(self)"},
+    },
+    "desk": {"Desk": {"__init__": "(self, book=None)", "book": "(self)", "say": "(self, line)"}},
 }
 
 

@@ -183,6 +183,40 @@ class Language(unittest.TestCase):
                 if called(node) in ITERATED_AT_ONCE:
                     self.assertIn(node, at_once, (name, node.lineno))
 
+    def test_handlers_name_own_errors_alone(self):
+        own = {node.name for name, text in sources() if name == "errors.py"
+               for node in ast.parse(text).body if isinstance(node, ast.ClassDef)}
+        for name, text in sources():
+            for node in ast.walk(ast.parse(text)):
+                if isinstance(node, ast.ExceptHandler):
+                    caught = node.type.elts if isinstance(node.type, ast.Tuple) else [node.type]
+                    self.assertTrue({part.id for part in caught} <= own, (name, node.lineno))
+
+    def test_raises_create_their_error_on_the_spot(self):
+        for name, text in sources():
+            for node in ast.walk(ast.parse(text)):
+                if isinstance(node, ast.Raise):
+                    self.assertIsNotNone(called(node.exc), (name, node.lineno))
+
+    def test_starred_calls_of_names_alone(self):
+        for name, text in sources():
+            for node in ast.walk(ast.parse(text)):
+                if isinstance(node, ast.Call):
+                    for handed in node.args:
+                        if isinstance(handed, ast.Starred):
+                            self.assertIsInstance(handed.value, ast.Name, (name, node.lineno))
+
+    def test_tables_are_not_changed_or_passed_on(self):
+        tables = {node.targets[0].id for name, text in sources() for node in ast.parse(text).body
+                  if isinstance(node, ast.Assign) and isinstance(node.value, (ast.Dict, ast.List))}
+        for name, text in sources():
+            tree = ast.parse(text)
+            read = [node.value for node in ast.walk(tree) if isinstance(node, (ast.Subscript, ast.Attribute))]
+            read += [node.comparators[0] for node in ast.walk(tree) if isinstance(node, ast.Compare)]
+            for node in ast.walk(tree):
+                if isinstance(node, ast.Name) and node.id in tables and isinstance(node.ctx, ast.Load):
+                    self.assertIn(node, read, (name, node.lineno))
+
     def test_is_with_none_true_and_false_alone(self):
         for name, text in sources():
             for node in ast.walk(ast.parse(text)):
