@@ -100,8 +100,11 @@ def delay_rows(sizes):
 
 def delayed(guards, delays):
     """The guards, each with so many beats more of delay."""
-    return [((name, rooms, (delay + more) % len(rooms)), watcher)
-            for ((name, rooms, delay), watcher), more in zip(guards, delays)]
+    later = []
+    for (post, watcher), more in zip(guards, delays):
+        name, rooms, delay = post
+        later.append(((name, rooms, (delay + more) % len(rooms)), watcher))
+    return later
 
 
 def least_delays(house, posts, reaches, starts, goals):

@@ -1,12 +1,13 @@
 """Books: a house with its posts, watchers and watches, and the deeds by which it came to them."""
 
 from darkthread.askings import answer, need_asking
-# A caller finds the greatest count of watches here.
-from darkthread.deeds import MOST_WATCHES, house_of, need_watch, scene_of
+from darkthread.deeds import house_of, need_watch, scene_of
 from darkthread.errors import Nothing
 from darkthread.history import first_step, next_step, steps_behind
 from darkthread.lines import deed_text
 from darkthread.scene import NEVER
+
+MOST_WATCHES = 4
 
 
 class Book:
@@ -14,7 +15,7 @@ class Book:
 
     def __init__(self):
         # Ahead of the deeds' steps stands the one from which they go on.
-        self.past = [first_step()]
+        self.past = [first_step(MOST_WATCHES)]
         self.undone = []
         self.at_work = False
 

@@ -1,7 +1,7 @@
 """Deeds: what each of them makes of what a book has.
 
-What a book has is a dict: its rooms, doors, sights, posts, watchers and watches, each a list, and its rule, a pair. A
-deed makes a new one and leaves the one ahead of it as it was.
+What a book has is a dict: its rooms, doors, sights, posts, watchers and watches, each a list, its rule, a pair, and how
+many watches it can have. A deed makes a new one and leaves the one ahead of it as it was.
 """
 
 from darkthread.askings import need_asking
@@ -9,8 +9,6 @@ from darkthread.errors import BadDeed, Full, Leans, NoDoor, NoPost, NoSight, NoW
 from darkthread.house import MOST_ROOMS, House, need_new_name, need_room, need_rooms, need_unlike
 from darkthread.rounds import need_round
 from darkthread.scene import MOST_POSTS, MOST_WATCHERS, NEVER, Scene, names_of, need_delay, need_reach, need_relief
-
-MOST_WATCHES = 4
 
 # For each word the kinds of the things that stand behind it.
 DEED_FORMS = {
@@ -32,9 +30,10 @@ DEED_FORMS = {
 }
 
 
-def nothing_yet():
-    """What a book has ahead of all deeds."""
-    return {"rooms": [], "doors": [], "sights": [], "posts": [], "watchers": [], "rule": (False, NEVER), "watches": []}
+def nothing_yet(most_watches):
+    """What a book that can have so many watches has ahead of all deeds."""
+    return {"rooms": [], "doors": [], "sights": [], "posts": [], "watchers": [], "rule": (False, NEVER), "watches": [],
+            "most": most_watches}
 
 
 def house_of(has):
@@ -195,7 +194,7 @@ def set_rule(has, meet, relief):
 
 def add_watch(has, name, asking):
     """A watch comes."""
-    need_place(name, names_of(has["watches"]), MOST_WATCHES)
+    need_place(name, names_of(has["watches"]), has["most"])
     need_asking(asking)
     return {**has, "watches": [*has["watches"], (name, asking)]}
 

@@ -35,9 +35,9 @@ def told_by(has):
     return {name: come_to(scene, asking) for name, asking in has["watches"]}
 
 
-def first_step():
-    """The step from which all deeds go on."""
-    return Step((), nothing_yet(), {}, [])
+def first_step(most_watches):
+    """The step from which all deeds of a book that can have so many watches go on."""
+    return Step((), nothing_yet(most_watches), {}, [])
 
 
 def next_step(step, deed, number):
