@@ -9,6 +9,13 @@ NUMBERS = (0, 0, 1, 1, 2, 3, -1, 4, 5, 6, 10 ** 9, -(10 ** 10))
 BEATS = (0, 1, 2, 5, -3, 10 ** 9, -(10 ** 9), 10 ** 9 + 1)
 WORDS = ("room", "room", "room", "strike", "door", "door", "door", "wall", "sight", "sight", "curtain", "post", "post",
          "post", "call", "delay", "watcher", "watcher", "leave", "lamp", "rule", "watch", "watch", "unwatch")
+# A book in which much can happen: by most deeds a watch sees something else.
+LIVELY = (("room", "hall"), ("room", "stair"), ("room", "attic"), ("room", "cellar"), ("room", "yard"),
+          ("door", "hall", "stair"), ("door", "stair", "attic"), ("door", "attic", "cellar"), ("door", "cellar", "yard"),
+          ("door", "hall", "yard"), ("sight", "hall", "attic"), ("watcher", "zoe", 1), ("watcher", "abe", 0),
+          ("watcher", "kim", 0), ("post", "north", ("hall", "stair", "attic", "stair"), 0),
+          ("post", "south", ("yard", "cellar", "yard"), 1), ("rule", True, 2), ("watch", "one", ("lit", 1)),
+          ("watch", "two", ("way", "attic", "hall")), ("watch", "three", ("wheel",)))
 
 
 def some_name(chance, names):

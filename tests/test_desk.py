@@ -9,7 +9,7 @@ from darkthread.desk import Desk
 from darkthread.lines import deed_text
 from tests.plain import Chance
 from tests.plainbook import PlainBook, book_of, come_to, shape_due, shape_of
-from tests.somedeeds import BAD_NAMES, some_asking, some_deed
+from tests.somedeeds import BAD_NAMES, LIVELY, some_asking, some_deed
 from tests.texts import is_line
 
 START = ("room hall", "room stair", "room attic", "door hall stair", "door stair attic", "watcher zoe 1")
@@ -138,7 +138,7 @@ class ByChance(unittest.TestCase):
     def test_held_against_a_plain_reckoning(self):
         found = {}
         for seed in range(8):
-            chance, desk, plain = Chance(seed), Desk(), PlainBook()
+            chance, desk, plain = Chance(seed), Desk(book_of(LIVELY)), PlainBook(LIVELY)
             for turn in range(120):
                 word = chance.one_of(("deed",) * 6 + ("undo", "redo", "ask", "notes"))
                 due = getattr(self, f"due_{word}")(chance, desk, plain)

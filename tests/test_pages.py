@@ -9,7 +9,7 @@ from darkthread.pages import page, read_page
 from tests.plain import Chance
 from tests.plainbook import PlainBook, book_of, shape_of
 from tests.refusing import Refusing
-from tests.somedeeds import some_deed
+from tests.somedeeds import LIVELY, some_deed
 from tests.texts import is_line
 
 ROWS = ("room hall", "room stair", "room attic", "door hall stair", "door stair attic", "sight hall attic",
@@ -63,7 +63,7 @@ class ThereAndBack(Refusing):
 
     def test_behind_any_turns(self):
         for seed in range(12):
-            chance, book = Chance(seed), Book()
+            chance, book = Chance(seed), book_of(LIVELY)
             for turn in range(80):
                 try:
                     (book.undo if chance.below(5) == 0 else book.redo if chance.below(8) == 0 else

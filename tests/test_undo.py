@@ -7,7 +7,7 @@ from darkthread.book import Book
 from tests.plain import Chance
 from tests.plainbook import PlainBook, book_of, refusal_of, shape_due, shape_of
 from tests.refusing import Refusing
-from tests.somedeeds import some_asking, some_deed
+from tests.somedeeds import LIVELY, some_asking, some_deed
 
 DEEDS = (("room", "hall"), ("room", "den"), ("door", "hall", "den"), ("watcher", "zoe", 0),
          ("watch", "one", ("where", "north", 0)), ("post", "north", ("hall", "den"), 1), ("delay", "north", 0),
@@ -73,7 +73,7 @@ class Turning(Refusing):
         self.book = twin
 
     def go_on(self, turns):
-        kinds = (self.turn_do,) * 6 + (self.turn_undo,) * 3 + (self.turn_redo,) * 2 + (self.turn_all, self.turn_ask,
+        kinds = (self.turn_do,) * 8 + (self.turn_undo,) * 3 + (self.turn_redo,) * 2 + (self.turn_all, self.turn_ask,
                                                                                       self.turn_twin)
         for turn in range(turns):
             self.chance.one_of(kinds)()
@@ -155,12 +155,17 @@ class Undo(Turning):
         self.assertEqual(shape_of(book), shape_due(PlainBook(DEEDS)))
 
     def test_by_chance(self):
-        for seed in range(14):
-            self.start(seed)
+        deeds = notes = 0
+        for seed in range(16):
+            self.start(seed, LIVELY if seed % 4 else ())
             for part in range(6):
-                self.go_on(20)
+                self.go_on(15)
                 self.check_same()
+                deeds += len(self.book)
+                notes += len(self.book.notes())
             self.check_all_back_and_again()
+        self.assertGreater(deeds, 16 * 6 * 15)
+        self.assertGreater(notes, 100)
 
 
 class AllOf(Turning):
@@ -250,8 +255,8 @@ class Twin(Turning):
 
     def test_by_chance(self):
         for seed in range(6):
-            self.start(seed)
-            self.go_on(40)
+            self.start(seed, LIVELY)
+            self.go_on(20)
             ways = [(self.book, self.plain)]
             for turn in range(3):
                 ways.append((ways[-1][0].twin(), PlainBook(ways[-1][1].deeds, ways[-1][1].undone)))
